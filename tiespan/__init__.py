@@ -1,0 +1,1 @@
+"""Tiespan: inequalities between two unknowns, decided through the shadows of pairs."""
