@@ -7,6 +7,8 @@ import ast
 import builtins
 import re
 
+from tests.rules_wide import wide_faults
+
 BUILTINS = set("""len range enumerate zip min max sum abs sorted reversed int str bool bytes list tuple dict set
     isinstance ord repr any all divmod iter next Exception ValueError TypeError KeyError IndexError LookupError
     ZeroDivisionError ArithmeticError OverflowError RuntimeError NotImplementedError AttributeError StopIteration
@@ -45,6 +47,7 @@ def faults(files):
             found.append(("L14", name, 1))
     found += import_faults(trees)
     found += changing_faults(trees)
+    found += wide_faults(trees, BUILTIN_METHODS)
     return found
 
 

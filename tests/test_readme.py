@@ -5,7 +5,7 @@ import inspect
 import pathlib
 import unittest
 
-from tiespan import errors, figures, ratios, ties
+from tiespan import certificates, errors, figures, layouts, lots, motions, ratios, ties
 
 README = pathlib.Path(__file__).resolve().parent.parent / "README.md"
 
@@ -19,13 +19,38 @@ INTERFACE = {
         "is_name": "(text)", "is_tie": "(thing)", "names_in": "(tie)", "reduced": "(tie)", "is_kept": "(tie, values)",
         "tie_text": "(tie)", "read_ties": "(text)",
     },
+    certificates: {
+        "derive": "(lot, tie)", "refute": "(lot)", "derives": "(ties, tie, paper)", "refutes": "(ties, paper)",
+    },
+    layouts: {"granted": "(lot, wishes)"},
 }
 METHODS = {
-    "__init__": "(self, rows=())", "nothing": "()", "point": "(x, y)", "rows": "(self)", "corners": "(self)",
-    "greatest": "(self, a, b)", "column": "(self, x)", "turned": "(self)", "__contains__": "(self, point)",
-    "__mul__": "(self, other)", "__add__": "(self, other)", "__le__": "(self, other)", "__eq__": "(self, other)",
-    "__bool__": "(self)", "__len__": "(self)", "__repr__": "(self)",
+    figures.Figure: {
+        "__init__": "(self, rows=())", "nothing": "()", "point": "(x, y)", "rows": "(self)", "corners": "(self)",
+        "greatest": "(self, a, b)", "column": "(self, x)", "turned": "(self)", "__contains__": "(self, point)",
+        "__mul__": "(self, other)", "__add__": "(self, other)", "__le__": "(self, other)", "__eq__": "(self, other)",
+        "__bool__": "(self)", "__len__": "(self)", "__repr__": "(self)",
+    },
+    lots.Lot: {
+        "__init__": "(self, names, ties=())", "read": "(names, text)", "names": "(self)", "ties": "(self)",
+        "text": "(self)", "holds": "(self, values)", "stretch": "(self, name)", "shadow": "(self, one, other)",
+        "limited": "(self, *names)", "closed": "(self)", "solution": "(self, **targets)", "__add__": "(self, other)",
+        "__mul__": "(self, other)", "__le__": "(self, other)", "__eq__": "(self, other)", "__len__": "(self)",
+        "__repr__": "(self)",
+    },
+    layouts.Layout: {
+        "__init__": "(self, lot, *wishes)", "lot": "(self)", "wishes": "(self)", "ask": "(self, wish)",
+        "drop": "(self, at)", "move": "(self, at, *, to=0)", "reached": "(self)", "solution": "(self)",
+        "__len__": "(self)", "__repr__": "(self)",
+    },
+    motions.Step: {
+        "__init__": "(self, names, ties=())", "stay": "(names)", "names": "(self)", "ties": "(self)", "lot": "(self)",
+        "closed": "(self)", "allows": "(self, before, after)", "__mul__": "(self, other)", "repeated": "(self, times)",
+        "back": "(self)", "moved": "(self, lot)", "__eq__": "(self, other)", "__len__": "(self)", "__repr__": "(self)",
+    },
 }
+STATIC = {figures.Figure: ["nothing", "point"], lots.Lot: ["read"], motions.Step: ["stay"]}
+VALUES = {layouts.Layout: 8, motions.Step: 3}
 
 
 class ReadmeTest(unittest.TestCase):
@@ -43,15 +68,23 @@ class InterfaceTest(unittest.TestCase):
                 self.assertEqual(str(inspect.signature(function)), told)
                 self.assertEqual(function.__module__, module.__name__)
 
-    def test_figure(self):
-        self.assertEqual(figures.Figure.__module__, "tiespan.figures")
-        self.assertEqual(figures.Figure.__bases__, (object,))
-        for name, told in METHODS.items():
-            self.assertIn(name, vars(figures.Figure))
-            method = getattr(figures.Figure, name)
-            self.assertEqual(str(inspect.signature(method)), told)
-        for name in ("nothing", "point"):
-            self.assertIsInstance(vars(figures.Figure)[name], staticmethod)
+    def test_classes(self):
+        for kind, methods in METHODS.items():
+            self.assertEqual(kind.__bases__, (object,))
+            for name, told in methods.items():
+                self.assertIn(name, vars(kind))
+                self.assertEqual(str(inspect.signature(getattr(kind, name))), told, name)
+                self.assertEqual(getattr(kind, name).__module__, kind.__module__)
+            for name in STATIC.get(kind, []):
+                self.assertIsInstance(vars(kind)[name], staticmethod)
+            if kind in VALUES:
+                self.assertEqual(vars(kind)["MOST"], VALUES[kind])
+        self.assertIsInstance(vars(lots.Lot)["possible"], property)
+        self.assertIsNone(lots.Lot.possible.fset)
+
+    def test_classes_stand_in_their_files(self):
+        for kind, module in ((figures.Figure, figures), (lots.Lot, lots), (layouts.Layout, layouts), (motions.Step, motions)):
+            self.assertEqual(kind.__module__, module.__name__)
 
     def test_errors_are_defined_in_their_file(self):
         for name, kind in vars(errors).items():

@@ -1,0 +1,110 @@
+"""Layouts: wishes for the values of terms, granted in order as far as the ties of a lot and the wishes before allow."""
+
+from tiespan.errors import Impossible, InvalidWish
+from tiespan.lots import Lot
+from tiespan.ratios import is_ratio, is_whole, subtract, ZERO
+from tiespan.ties import are_terms
+from tiespan.values import nearest, negative, reach_of
+from tiespan.webs import web_for
+
+
+def is_wish(thing, names):
+    """Returns whether a value is a wish for some names."""
+    if not isinstance(thing, tuple) or len(thing) != 2:
+        return False
+    terms, target = thing
+    return are_terms(terms) and all([name in names for name, rate in terms]) and is_ratio(target)
+
+
+def check_wishes(lot, wishes):
+    """Checks that all items are wishes for names of a lot."""
+    names = lot.names()
+    for at, wish in enumerate(wishes):
+        if not is_wish(wish, names):
+            raise InvalidWish(at)
+
+
+def held_at(lot, terms, value):
+    """Returns the lot that allows terms no other value."""
+    ties = [(terms, value), (negative(terms), subtract(ZERO, value))]
+    return Lot(lot.names(), lot.ties() + ties)
+
+
+def settle(lot, wishes):
+    """Returns the list of the values that valid wishes reach, and the lot that allows them no others."""
+    if not lot.possible:
+        raise Impossible()
+    values = []
+    for terms, target in wishes:
+        web = web_for(lot.web(), [name for name, rate in terms])
+        value = nearest(reach_of(web, terms), target)
+        values.append(value)
+        lot = held_at(lot, terms, value)
+    return values, lot
+
+
+def granted(lot, wishes):
+    """Returns the list of the values that wishes reach."""
+    check_wishes(lot, wishes)
+    return settle(lot, wishes)[0]
+
+
+class Layout:
+    """A lot and wishes in order, which can be changed."""
+
+    MOST = 8
+
+    def __init__(self, lot, *wishes):
+        check_wishes(lot, wishes)
+        if len(wishes) > Layout.MOST:
+            raise InvalidWish(Layout.MOST)
+        self.ground = lot
+        self.asked = list(wishes)
+
+    def lot(self):
+        """Returns the lot."""
+        return self.ground
+
+    def wishes(self):
+        """Returns the list of the wishes."""
+        return list(self.asked)
+
+    def ask(self, wish):
+        """Adds a wish behind the others."""
+        many = len(self.asked)
+        if many >= Layout.MOST or not is_wish(wish, self.ground.names()):
+            raise InvalidWish(many)
+        self.asked.append(wish)
+
+    def present(self, at):
+        """Checks that there is a wish with an index."""
+        if not is_whole(at) or not 0 <= at < len(self.asked):
+            raise InvalidWish(at)
+
+    def drop(self, at):
+        """Removes a wish."""
+        self.present(at)
+        self.asked.pop(at)
+
+    def move(self, at, *, to=0):
+        """Moves a wish so that it has another index."""
+        self.present(at)
+        self.present(to)
+        self.asked.insert(to, self.asked.pop(at))
+
+    def reached(self):
+        """Gives the pairs of a wish and the value that it reaches."""
+        wishes = list(self.asked)
+        values = granted(self.ground, wishes)
+        for at, wish in enumerate(wishes):
+            yield (wish, values[at])
+
+    def solution(self):
+        """Returns a solution with the values that the wishes reach."""
+        return settle(self.ground, self.asked)[1].solution()
+
+    def __len__(self):
+        return len(self.asked)
+
+    def __repr__(self):
+        return f"Layout({len(self.asked)} wishes)"
