@@ -7,6 +7,7 @@ from fractions import Fraction
 from tests import plain_lots
 from tests.plain import pair
 from tests.plain_lots import ANYTHING, bare, kinds, many_lots, some_tie
+from tiespan.balances import balance
 from tiespan.certificates import derive, derives, refute, refutes
 from tiespan.errors import NotImplied, Possible, UnknownName
 from tiespan.lots import Lot
@@ -142,6 +143,46 @@ class JudgeTest(unittest.TestCase):
         self.assertIs(derives(paper=paper[:1], ties=TIES, tie=tie_of("x <= 1")), True)
         self.assertEqual(derive(tie=tie_of("x <= 9"), lot=Lot.read(["x"], "x <= 9")), [(0, (1, 1))])
         self.assertTrue(plainly_refutes(TIES[::2], refute(lot=Lot(["x", "z"], TIES[::2]))))
+
+
+class BalanceTest(unittest.TestCase):
+    def test_few(self):
+        self.assertEqual(balance([], [0, 0]), [])
+        self.assertIsNone(balance([], [0, 1]))
+        self.assertIsNone(balance([[1], [2]], [-1]))
+        self.assertIsNone(balance([[1, 1], [2, 2]], [1, 2]))
+        self.assertEqual(balance([[2, 4], [-3, 0]], [0, 8]), [(0, (2, 1)), (1, (4, 3))])
+        self.assertEqual(balance([[0, 0], [5, -5]], [-3, 3]), None)
+        self.assertEqual(balance([[0, 0], [-5, 5]], [-3, 3]), [(1, (3, 5))])
+
+    def test_any_columns(self):
+        dice = random.Random(4)
+        found = 0
+        for turn in range(400):
+            many, height = dice.randint(0, 8), dice.randint(1, 4)
+            columns = [[dice.randint(-3, 3) for at in range(height)] for column in range(many)]
+            shares = [dice.choice([0, 0, 1, 2]) for column in range(many)]
+            goal = [sum(share * column[at] for share, column in zip(shares, columns)) for at in range(height)]
+            goal[0] += dice.choice([0, 0, 0, 1])
+            answer = balance(columns, goal)
+            if answer is None:
+                self.assertTrue(self.is_impossible(columns, goal))
+                continue
+            found += 1
+            self.assertEqual(sorted(set(at for at, share in answer)), [at for at, share in answer])
+            self.assertTrue(all(share[0] > 0 for at, share in answer))
+            for at in range(height):
+                self.assertEqual(sum(Fraction(*share) * columns[place][at] for place, share in answer), goal[at])
+            self.assertLessEqual(len(answer), height)
+        self.assertGreater(found, 200)
+        self.assertLess(found, 390)
+
+    def is_impossible(self, columns, goal):
+        """Returns whether some direction parts all columns from the goal: elimination of the direction says so."""
+        names = [f"n{at}" for at in range(len(goal))]
+        ties = [(dict((name, Fraction(rate)) for name, rate in zip(names, column) if rate), Fraction(0)) for column in columns]
+        ties.append((dict((name, Fraction(-rate)) for name, rate in zip(names, goal) if rate), Fraction(-1)))
+        return plain_lots.possible(ties)
 
 
 class FindTest(unittest.TestCase):

@@ -160,6 +160,9 @@ class FewTest(unittest.TestCase):
         self.assertIs(one.allows({"x": (2, 1), "y": (1, 2)}, {"x": (1, 1), "y": (1, 2)}), False)
         self.assertIs(DOUBLE.allows({"x": (1, 1)}, {"x": (3, 1)}), True)
         self.assertIs(DOUBLE.allows({"x": (3, 1)}, {"x": (1, 1)}), False)
+        for before, after in (({}, {"x": (3, 1)}), ({"x": (1, 1)}, {}), ({"x": (1, 1), "y": (1, 1)}, {"x": (3, 1)}),
+                              ({"x": (1, 1)}, {"x": (3, 1), "x'": (3, 1)}), ({"x": (1, 1)}, {"x'": (3, 1)})):
+            self.assertIs(DOUBLE.allows(before, after), False)
         values = {"x": (1, 1)}
         DOUBLE.allows(values, values)
         self.assertEqual(values, {"x": (1, 1)})

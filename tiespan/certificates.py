@@ -1,7 +1,7 @@
 """Certificates: sums of ties that show a tie or a contradiction."""
 
 from tiespan.balances import balance
-from tiespan.errors import NotImplied, Possible, UnknownName
+from tiespan.errors import NotImplied, Possible
 from tiespan.lots import Lot
 from tiespan.ratios import ZERO, add, common_divisor, is_less, is_ratio, is_whole, multiply, ratio, subtract
 from tiespan.ties import names_in

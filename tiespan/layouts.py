@@ -1,11 +1,10 @@
 """Layouts: wishes for the values of terms, granted in order as far as the ties of a lot and the wishes before allow."""
 
 from tiespan.errors import Impossible, InvalidWish
-from tiespan.lots import Lot
-from tiespan.ratios import is_ratio, is_whole, subtract, ZERO
+from tiespan.ratios import ZERO, is_ratio, is_whole, subtract
 from tiespan.ties import are_terms
-from tiespan.values import nearest, negative, reach_of
-from tiespan.webs import web_for
+from tiespan.values import nearest, negative, reach_of, solution_of
+from tiespan.webs import tied, web_for
 
 
 def is_wish(thing, names):
@@ -24,23 +23,23 @@ def check_wishes(lot, wishes):
             raise InvalidWish(at)
 
 
-def held_at(lot, terms, value):
-    """Returns the lot that allows terms no other value."""
-    ties = [(terms, value), (negative(terms), subtract(ZERO, value))]
-    return Lot(lot.names(), lot.ties() + ties)
+def held_at(terms, value):
+    """Returns the ties that allow terms no other value."""
+    return [(terms, value), (negative(terms), subtract(ZERO, value))]
 
 
 def settle(lot, wishes):
-    """Returns the list of the values that valid wishes reach, and the lot that allows them no others."""
-    if not lot.possible:
+    """Returns the list of the values that valid wishes reach, and the web that allows them no others."""
+    web = lot.web()
+    if web_for(web, []) is None:
         raise Impossible()
     values = []
     for terms, target in wishes:
-        web = web_for(lot.web(), [name for name, rate in terms])
-        value = nearest(reach_of(web, terms), target)
+        left = web_for(web, [name for name, rate in terms])
+        value = nearest(reach_of(left, terms), target)
         values.append(value)
-        lot = held_at(lot, terms, value)
-    return values, lot
+        web = tied(web, held_at(terms, value))
+    return values, web
 
 
 def granted(lot, wishes):
@@ -101,7 +100,7 @@ class Layout:
 
     def solution(self):
         """Returns a solution with the values that the wishes reach."""
-        return settle(self.ground, self.asked)[1].solution()
+        return solution_of(settle(self.ground, self.asked)[1], {})
 
     def __len__(self):
         return len(self.asked)

@@ -114,7 +114,7 @@ class Lot:
         """Returns the solution in which the names, ascending, get the nearest values to their targets, or to 0."""
         for name in targets:
             self.known(name)
-        values = solution_of(self.unknowns, self.bonds, targets)
+        values = solution_of(self.web(), targets)
         if values is None:
             raise Impossible()
         return values

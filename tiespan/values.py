@@ -4,7 +4,7 @@ from tiespan.hulls import reach, spots, turned_off
 from tiespan.ratios import ZERO, divide, greatest, least, multiply
 from tiespan.sides import second_numbers
 from tiespan.ties import reduced
-from tiespan.webs import between, trail_of, web_of
+from tiespan.webs import between, narrowed, trail_of
 
 
 def nearest(stretch, target):
@@ -15,16 +15,16 @@ def nearest(stretch, target):
 
 def open_stretch(web, name, values):
     """Returns the stretch that a web leaves to its last name, behind values for all the others."""
-    low, top = web[0][name]
+    stretch = web[0][name]
     for other in values:
-        first, last = second_numbers(between(web, other, name), values[other])
-        low, top = greatest(low, first), least(top, last)
-    return low, top
+        stretch = narrowed(stretch, second_numbers(between(web, other, name), values[other]))
+    return stretch
 
 
-def solution_of(names, ties, targets):
-    """Returns the solution of ties between ascending names that is nearest to targets, name by name, or None."""
-    trail = trail_of(web_of(names, ties), names[::-1])
+def solution_of(web, targets):
+    """Returns the solution of a web that is nearest to targets, name by name, or None without a solution."""
+    names = list(web[0]) if web is not None else []
+    trail = trail_of(web, names[::-1])
     if trail is None:
         return None
     values = {}

@@ -49,22 +49,41 @@ def rows_of(ties):
     return [(terms[0][1][0], terms[1][1][0], bound) for terms, bound in ties]
 
 
-def web_of(names, ties):
-    """Returns the web of ascending names and ties between them, or None if it has no solution at first sight."""
+def narrowed(one, other):
+    """Returns the stretch of the numbers that two stretches have in common."""
+    return greatest(one[0], other[0]), least(one[1], other[1])
+
+
+def is_empty(stretch):
+    """Returns whether a stretch has no number."""
+    low, top = stretch
+    return low is not None and top is not None and is_less(top, low)
+
+
+def tied(web, ties):
+    """Returns a web with further ties between its names, or None if it has no solution at first sight."""
     groups = grouped(ties)
     stretches = {}
-    for name in names:
-        low, top = own_stretch(groups.get((name,), []))
-        if low is not None and top is not None and is_less(top, low):
+    for name in web[0]:
+        stretches[name] = narrowed(web[0][name], own_stretch(groups.get((name,), [])))
+        if is_empty(stretches[name]):
             return None
-        stretches[name] = (low, top)
     planes = {}
-    for one, other in pairs_of(names):
-        sides = settled(rows_of(groups.get((one, other), [])) + frame(stretches[one], stretches[other]))
-        if sides is None:
-            return None
+    for one, other in web[1]:
+        sides = web[1][(one, other)]
+        rows = rows_of(groups.get((one, other), []))
+        if rows != [] or stretches[one] != web[0][one] or stretches[other] != web[0][other]:
+            sides = settled(sides + rows + frame(stretches[one], stretches[other]))
+            if sides is None:
+                return None
         planes[(one, other)] = sides
     return stretches, planes
+
+
+def web_of(names, ties):
+    """Returns the web of ascending names and ties between them, or None if it has no solution at first sight."""
+    free = {name: (None, None) for name in names}
+    return tied((free, {pair: [] for pair in pairs_of(names)}), ties)
 
 
 def between(web, one, other):
@@ -124,16 +143,15 @@ def near_rows(web, closed, name, other):
 def put_back(web, closed, name):
     """Returns the closed web for the first name of a web and the closed web of the names behind it."""
     stretches, planes = closed
-    low, top = web[0][name]
+    stretch = web[0][name]
     near = {}
     for other in stretches:
         near[other] = near_rows(web, closed, name, other)
-        first = first_stretch(near[other])
-        low, top = greatest(low, first[0]), least(top, first[1])
+        stretch = narrowed(stretch, first_stretch(near[other]))
     found = {}
     for other in stretches:
-        found[(name, other)] = settled(near[other] + walls((low, top)))
-    return {name: (low, top), **stretches}, {**found, **planes}
+        found[(name, other)] = settled(near[other] + walls(stretch))
+    return {name: stretch, **stretches}, {**found, **planes}
 
 
 def closed_web(web):
