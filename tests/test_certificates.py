@@ -1,6 +1,7 @@
 """Promises 27 to 29 and 65: certificates are judged by plain sums, and found for all that follows."""
 
 import random
+import signal
 import unittest
 from fractions import Fraction
 
@@ -145,7 +146,38 @@ class JudgeTest(unittest.TestCase):
         self.assertTrue(plainly_refutes(TIES[::2], refute(lot=Lot(["x", "z"], TIES[::2]))))
 
 
+# Tables in which columns come and go for ever if, of several rows that are filled alike, the first one gives way, or
+# the last one, or that of the last column.
+ENDLESS = [
+    ([[-2, -1, -2, 3, -3], [-3, -1, 1, -2, 3], [4, 3, 1, -2, -4], [-1, 1, 3, 2, 0], [-1, -4, -2, -2, -3], [2, 2, 2, 0, 4],
+      [-4, -4, -3, 2, 2], [-1, -3, 1, -1, -4], [2, 2, 2, 1, 2]], [0, 0, 0, 0, 1]),
+    ([[0, 0, 4, 0], [-3, -3, 4, 2], [1, -2, -4, -4], [1, -3, -1, -3], [0, 3, -2, -2], [-3, -2, -2, 4], [0, 1, 4, -4],
+      [1, 4, -1, -1]], [0, 0, 1, 1]),
+    ([[4, 0, -2], [4, 1, 2], [-3, -1, -2], [0, -2, 1], [-3, 4, -4], [-3, 2, 2], [-3, 3, 0], [2, -1, 4]], [0, 0, 1]),
+    ([[4, 3, 1, -1, 1], [0, -2, 3, -2, -2], [1, -4, -3, 0, -4], [0, -4, -3, -2, -1], [2, -4, 1, 0, -1], [-2, 4, -4, -1, 4],
+      [-2, -3, 4, 0, -4]], [0, 0, 0, 1, 1]),
+    ([[2, -3, 1, -3], [2, -4, -3, 0], [-2, 3, 1, -3], [3, 2, 4, -4], [1, 3, 0, 2], [-1, 4, -4, 0], [-2, -1, -1, -3],
+      [3, -3, 0, 4], [-3, -4, 0, -3]], [0, 0, 0, 1]),
+    ([[4, -3, -1, -2], [-1, -4, 2, 1], [-4, 4, 4, 0], [-2, -3, 3, 3], [2, -1, 4, -3], [1, 2, 4, 0], [0, -3, 1, 2]],
+     [0, 0, 0, 1]),
+]
+
+
+def too_long(number, frame):
+    raise AssertionError("a call does not end")
+
+
 class BalanceTest(unittest.TestCase):
+    def test_no_table_comes_twice(self):
+        before = signal.signal(signal.SIGALRM, too_long)
+        signal.alarm(60)
+        try:
+            for columns, goal in ENDLESS:
+                self.check(columns, goal, balance(columns, goal))
+        finally:
+            signal.alarm(0)
+            signal.signal(signal.SIGALRM, before)
+
     def test_few(self):
         self.assertEqual(balance([], [0, 0]), [])
         self.assertIsNone(balance([], [0, 1]))
@@ -165,17 +197,20 @@ class BalanceTest(unittest.TestCase):
             goal = [sum(share * column[at] for share, column in zip(shares, columns)) for at in range(height)]
             goal[0] += dice.choice([0, 0, 0, 1])
             answer = balance(columns, goal)
-            if answer is None:
-                self.assertTrue(self.is_impossible(columns, goal))
-                continue
-            found += 1
-            self.assertEqual(sorted(set(at for at, share in answer)), [at for at, share in answer])
-            self.assertTrue(all(share[0] > 0 for at, share in answer))
-            for at in range(height):
-                self.assertEqual(sum(Fraction(*share) * columns[place][at] for place, share in answer), goal[at])
-            self.assertLessEqual(len(answer), height)
+            self.check(columns, goal, answer)
+            found += answer is not None
         self.assertGreater(found, 200)
         self.assertLess(found, 390)
+
+    def check(self, columns, goal, answer):
+        if answer is None:
+            self.assertTrue(self.is_impossible(columns, goal))
+            return
+        self.assertEqual(sorted(set(at for at, share in answer)), [at for at, share in answer])
+        self.assertTrue(all(share[0] > 0 for at, share in answer))
+        for at, wanted in enumerate(goal):
+            self.assertEqual(sum(Fraction(*share) * columns[place][at] for place, share in answer), wanted)
+        self.assertLessEqual(len(answer), len(goal))
 
     def is_impossible(self, columns, goal):
         """Returns whether some direction parts all columns from the goal: elimination of the direction says so."""
