@@ -274,7 +274,7 @@ def changing_faults(trees):
         for node in ast.walk(tree):
             if isinstance(node, ast.FunctionDef):
                 known.setdefault(node.name, []).append((name, node))
-                operator = node.name in SPECIAL and node.name != "__init__"
+                operator = node.name in SPECIAL and node.name not in ("__init__", "__call__")
                 asked = any(isinstance(one, ast.Name) and one.id == "property" for one in node.decorator_list)
                 if operator or asked:
                     todo.append((name, node))
