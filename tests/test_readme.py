@@ -5,7 +5,7 @@ import inspect
 import pathlib
 import unittest
 
-from tiespan import certificates, errors, figures, layouts, lots, motions, ratios, ties
+from tiespan import boards, certificates, desks, errors, figures, layouts, lots, motions, pages, programs, ratios, ties
 
 README = pathlib.Path(__file__).resolve().parent.parent / "README.md"
 
@@ -23,6 +23,11 @@ INTERFACE = {
         "derive": "(lot, tie)", "refute": "(lot)", "derives": "(ties, tie, paper)", "refutes": "(ties, paper)",
     },
     layouts: {"granted": "(lot, wishes)"},
+    programs: {
+        "read_program": "(text)", "program_text": "(program)", "compiled": "(names, program)",
+        "run_program": "(program, values, *choices)",
+    },
+    pages: {"format_board": "(board)", "parse_board": "(text)", "stretch_table": "(lot)"},
 }
 METHODS = {
     figures.Figure: {
@@ -48,9 +53,23 @@ METHODS = {
         "closed": "(self)", "allows": "(self, before, after)", "__mul__": "(self, other)", "repeated": "(self, times)",
         "back": "(self)", "moved": "(self, lot)", "__eq__": "(self, other)", "__len__": "(self)", "__repr__": "(self)",
     },
+    boards.Board: {
+        "__init__": "(self, names, *, limit=20)", "change_limit": "(self, value)", "apply": "(self, *commands)",
+        "undo": "(self)", "redo": "(self)", "history": "(self)", "names": "(self)", "labels": "(self)",
+        "tie": "(self, label)", "wishes": "(self)", "lot": "(self)", "layout": "(self)", "solution": "(self)",
+        "shadow": "(self, one, other)", "kept": "(self)", "verdict": "(self, tie)", "twin": "(self)",
+        "__len__": "(self)", "__contains__": "(self, label)", "__repr__": "(self)",
+    },
+    boards.GuardedBoard: {"__init__": "(self, names, *, limit=20)", "apply": "(self, *commands)"},
+    desks.Desk: {
+        "__init__": "(self, board)", "of": "(*names)", "ask": "(self, line)", "__call__": "(self, line)",
+        "board": "(self)", "log": "(self)", "__len__": "(self)",
+    },
 }
+BASES = {boards.GuardedBoard: (boards.Board,)}
 STATIC = {figures.Figure: ["nothing", "point"], lots.Lot: ["read"], motions.Step: ["stay"]}
-VALUES = {layouts.Layout: 8, motions.Step: 3}
+VALUES = {layouts.Layout: 8, motions.Step: 3, boards.Board: 40}
+PROPERTIES = {(lots.Lot, "possible"): False, (boards.Board, "limit"): True, (boards.Board, "busy"): False, (boards.Board, "made"): False}
 
 
 class ReadmeTest(unittest.TestCase):
@@ -70,7 +89,7 @@ class InterfaceTest(unittest.TestCase):
 
     def test_classes(self):
         for kind, methods in METHODS.items():
-            self.assertEqual(kind.__bases__, (object,))
+            self.assertEqual(kind.__bases__, BASES.get(kind, (object,)))
             for name, told in methods.items():
                 self.assertIn(name, vars(kind))
                 self.assertEqual(str(inspect.signature(getattr(kind, name))), told, name)
@@ -79,12 +98,19 @@ class InterfaceTest(unittest.TestCase):
                 self.assertIsInstance(vars(kind)[name], staticmethod)
             if kind in VALUES:
                 self.assertEqual(vars(kind)["MOST"], VALUES[kind])
-        self.assertIsInstance(vars(lots.Lot)["possible"], property)
-        self.assertIsNone(lots.Lot.possible.fset)
+        self.assertIsInstance(vars(desks.Desk)["of"], classmethod)
+
+    def test_properties(self):
+        for (kind, name), assigned in PROPERTIES.items():
+            self.assertIsInstance(vars(kind)[name], property)
+            self.assertEqual(vars(kind)[name].fset is not None, assigned)
 
     def test_classes_stand_in_their_files(self):
-        for kind, module in ((figures.Figure, figures), (lots.Lot, lots), (layouts.Layout, layouts), (motions.Step, motions)):
-            self.assertEqual(kind.__module__, module.__name__)
+        for module in (figures, lots, layouts, motions, boards, desks):
+            kinds = [kind for kind in METHODS if kind.__module__ == module.__name__]
+            self.assertGreater(len(kinds), 0)
+            for kind in kinds:
+                self.assertIs(getattr(module, kind.__name__), kind)
 
     def test_errors_are_defined_in_their_file(self):
         for name, kind in vars(errors).items():
