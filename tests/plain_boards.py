@@ -13,7 +13,7 @@ from tests.plain import pair
 from tests.plain_lots import ANYTHING, bare
 
 LENGTHS = {"tie": 3, "wish": 4, "first": 2, "drop": 2}
-WRONG_LABELS = ["", "A", "ab1", "a b", "a'", "abcdefghi", "a\n", None, True, False, 0, 7, 10 ** 29, (), ("a",), ["a"], [], ("a", "b")]
+WRONG_LABELS = ["", "A", "ab1", "a b", "a'", "abcdefghi", "a\n", "\u00e9", "\u00aa", None, True, False, 0, 7, 10 ** 29, (), ("a",), ["a"], [], ("a", "b")]
 LABELS = ["a", "b", "c", "d", "e", "f", "lo", "lot", "top", "zz", "abcdefgh", "zzzzzzzz"]
 
 

@@ -15,6 +15,10 @@ def wide_faults(trees, builtin_methods):
                 yield rule, name, node.lineno
             for rule in handler_faults(node):
                 yield rule, name, node.lineno
+            for rule in finally_faults(node):
+                yield rule, name, node.lineno
+            for rule in method_faults(node):
+                yield rule, name, node.lineno
 
 
 def decorators(method):
@@ -125,3 +129,52 @@ def handler_faults(node):
     if isinstance(node, ast.Raise) and node.exc is not None:
         if not isinstance(node.exc, ast.Call) or not isinstance(node.exc.func, ast.Name) or not node.exc.func.id[0].isupper():
             yield "L19"
+
+
+def is_simple(node):
+    """Returns whether a value is one that L6 allows in a `finally`."""
+    if isinstance(node, (ast.List, ast.Tuple)):
+        return all(is_simple(one) for one in node.elts)
+    if isinstance(node, ast.BinOp) and isinstance(node.op, ast.Add):
+        return is_simple(node.left) and is_simple(node.right)
+    return isinstance(node, (ast.Name, ast.Constant)) or (isinstance(node, ast.Attribute) and is_simple(node.value))
+
+
+def finally_faults(node):
+    """L6: a `finally` assigns what is simple to names and attributes."""
+    if isinstance(node, ast.Try):
+        for one in node.finalbody:
+            plain = isinstance(one, ast.Assign) and len(one.targets) == 1 and isinstance(one.targets[0], (ast.Name, ast.Attribute))
+            if not isinstance(one, ast.Pass) and not (plain and is_simple(one.value)):
+                yield "L6"
+
+
+def is_length(node):
+    if isinstance(node, ast.Constant):
+        return isinstance(node.value, int)
+    return isinstance(node, ast.Call) and isinstance(node.func, ast.Name) and node.func.id == "len"
+
+
+def is_text(node):
+    if isinstance(node, ast.Call) and isinstance(node.func, ast.Name):
+        return node.func.id in ("str", "repr")
+    return isinstance(node, ast.JoinedStr) or (isinstance(node, ast.Constant) and isinstance(node.value, str))
+
+
+def method_faults(node):
+    """L5 and L28: what class methods do with their class, and what `__len__`, `__repr__` and `__init__` return."""
+    if not isinstance(node, ast.FunctionDef):
+        return
+    returns = [one for one in ast.walk(node) if isinstance(one, ast.Return)]
+    if node.name == "__len__" and not all(is_length(one.value) for one in returns):
+        yield "L28"
+    if node.name in ("__repr__", "__str__") and not all(is_text(one.value) for one in returns):
+        yield "L28"
+    if node.name == "__init__" and returns:
+        yield "L28"
+    if "classmethod" in decorators(node):
+        used = [one.func for one in ast.walk(node) if isinstance(one, ast.Call)]
+        used += [one.value for one in ast.walk(node) if isinstance(one, ast.Attribute)]
+        first = node.args.args[0].arg
+        if any(isinstance(one, ast.Name) and one.id == first and one not in used for one in ast.walk(node)):
+            yield "L5"
