@@ -56,6 +56,20 @@ class RatioTest(unittest.TestCase):
             top, under = dice.randint(-HUGE, HUGE) // scale * scale, dice.randint(1, HUGE) * scale
             self.assertEqual(ratio(top, -under), pair(Fraction(top, -under)))
 
+    def test_ratio_of_long_numbers(self):
+        dice = random.Random(2)
+        for turn in range(300):
+            shared = dice.getrandbits(dice.choice([1, 60, 4000, 9000])) + 1
+            top = dice.getrandbits(dice.choice([1, 300, 4090, 4100, 9000, 15000])) + 1
+            under = dice.choice([dice.getrandbits(dice.choice([1, 300, 4100, 9000])) + 1, top, top + 1, 2 * top - 1, 2 * top, top * top + 1])
+            found = ratio(top * shared, -under * shared)
+            self.assertEqual(found, pair(Fraction(-top, under)))
+            self.assertIs(is_ratio((top * 2, under * 2)), False)
+        one, other = 1, 1
+        for turn in range(12000):
+            one, other = other, one + other
+        self.assertEqual((ratio(one, other), ratio(other * 6, one * 9)), ((one, other), pair(Fraction(other * 2, one * 3))))
+
     def test_division_by_zero(self):
         for top in (0, 1, -1, HUGE):
             with self.assertRaises(InvalidRatio) as caught:

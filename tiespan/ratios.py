@@ -6,6 +6,10 @@ Comparing works for pairs that are not in lowest terms as well, as long as their
 from tiespan.errors import InvalidRatio, ParseError
 
 ZERO = (0, 1)
+# From how many bits on integers are long; with how many leading bits they are shortened, and down to how many.
+LONG = 4096
+LEADING = 256
+HALF = 128
 
 
 def is_whole(thing):
@@ -13,10 +17,35 @@ def is_whole(thing):
     return isinstance(thing, int) and not isinstance(thing, bool)
 
 
+def shortened(one, other):
+    """Returns two smaller integers with the same greatest common divisor as two long ones, the greater one first.
+
+    Steps of Euclid are worked out for the leading bits alone, and all of them are then done at once: this is much
+    faster for long integers, and it changes no divisor, even where the steps for all bits would be others.
+    """
+    shift = one.bit_length() - LEADING
+    high, low = one >> shift, other >> shift
+    a, b, c, d = 1, 0, 0, 1
+    while low >> HALF > 0:
+        times, rest = divmod(high, low)
+        if rest >> HALF == 0:
+            break
+        high, low = low, rest
+        a, b, c, d = c, d, a - times * c, b - times * d
+    if b == 0:
+        return other, one % other
+    first, second = abs(a * one + b * other), abs(c * one + d * other)
+    return (first, second) if first >= second else (second, first)
+
+
 def common_divisor(one, other):
     """Returns the greatest common divisor of two integers."""
     one = abs(one)
     other = abs(other)
+    if one < other:
+        one, other = other, one
+    while other.bit_length() > LONG:
+        one, other = shortened(one, other)
     while other > 0:
         one, other = other, one % other
     return one
