@@ -20,12 +20,18 @@ WRONG_COMMANDS = [
 
 
 def filled(kind=Board, limit=20, wishes=8):
-    """Returns a board with a tie `a` and one for each further place below its limit, and with wishes `wa`, `wb` .."""
+    """Returns a board with a tie `a` and one for each further place below its limit, and with wishes `wa`, `wb` ..
+
+    It has steps to undo and one to redo, and a kept shadow.
+    """
     board = kind(["x", "y"], limit=limit)
     for at in range(limit):
         board.apply(("tie", "abcdefghijklmnopqrstuvwxyz"[at], ((("x", ONE),), (at + 1, 1))))
     for letter in "abcdefgh"[:wishes]:
         board.apply(("wish", "w" + letter, SUM, ONE))
+    board.apply(("drop", "a"))
+    board.undo()
+    board.shadow("x", "y")
     return board
 
 
@@ -142,6 +148,7 @@ class CommandErrorTest(unittest.TestCase):
 
     def check_in_batches(self, board, fault, command):
         """Asks for an error alone, and first and later among other commands."""
+        self.assertEqual((board.history()[1], board.kept(), board.made), (1, [("x", "y")], 1))
         good = [("first", "wa"), ("first", "wb")]
         self.check(board, fault, command)
         self.check(board, fault, command, *good)
